@@ -1,0 +1,132 @@
+"""The rules of ../shared/LANGUAGE.md that a plain look at the files can see; it does not see all of them."""
+
+import ast
+import builtins
+import re
+import unittest
+from pathlib import Path
+
+FOLDER = Path(__file__).resolve().parent.parent / "tiewebs"
+FILES = sorted(FOLDER.rglob("*.py"))
+
+BARRED_NODES = (
+    ast.With, ast.Match, ast.Global, ast.Nonlocal, ast.Yield, ast.YieldFrom, ast.AsyncFunctionDef, ast.AsyncFor,
+    ast.AsyncWith, ast.Await, ast.GeneratorExp, ast.NamedExpr, ast.Div, ast.Import, ast.MatMult,
+)
+BUILTINS = set(
+    "len range enumerate zip min max sum abs sorted reversed int str bool bytes list tuple dict set frozenset "
+    "isinstance ord repr any all divmod Exception ValueError TypeError KeyError IndexError LookupError "
+    "ZeroDivisionError ArithmeticError OverflowError RuntimeError NotImplementedError AttributeError "
+    "StopIteration".split())
+BARRED_WORDS = re.compile(
+    r"\b(type|typing|typing_extensions|enum|Enum|IntEnum|StrEnum|Flag|IntFlag|Generic|Protocol|ABC|ABCMeta|"
+    r"namedtuple|NamedTuple|TypedDict|TYPE_CHECKING|abstractmethod)\b|dataclass|overload|contextmanager")
+METHODS = set(
+    "append clear copy count endswith extend find get index insert isalnum isalpha isdigit islower isspace isupper "
+    "items join keys ljust lower lstrip partition pop remove replace reverse rfind rjust rpartition rsplit rstrip "
+    "setdefault split splitlines startswith strip update upper values zfill bit_length add discard sort "
+    "title capitalize swapcase casefold center expandtabs removeprefix removesuffix rindex isascii isdecimal "
+    "isnumeric istitle isidentifier isprintable translate maketrans encode decode hex fromhex to_bytes "
+    "from_bytes __init__".split())
+
+
+def own_methods(trees):
+    return {part.name for tree in trees for node in ast.walk(tree) if isinstance(node, ast.ClassDef)
+            for part in node.body if isinstance(part, ast.FunctionDef)}
+
+
+def names_in(tree):
+    """Each name that a file gives or uses."""
+    for node in ast.walk(tree):
+        if isinstance(node, ast.Name):
+            yield node.id
+        elif isinstance(node, (ast.FunctionDef, ast.ClassDef)):
+            yield node.name
+        elif isinstance(node, ast.arg):
+            yield node.arg
+        elif isinstance(node, ast.Attribute):
+            yield node.attr
+
+
+class Language(unittest.TestCase):
+    def setUp(self):
+        self.texts = {file: file.read_bytes().decode("utf-8") for file in FILES}
+        self.trees = {file: ast.parse(text) for file, text in self.texts.items()}
+
+    def walk(self):
+        for file, tree in self.trees.items():
+            for node in ast.walk(tree):
+                yield f"{file.name}:{getattr(node, 'lineno', 0)}", node
+
+    def test_files(self):
+        self.assertIn(FOLDER / "__init__.py", FILES)
+        for path in FOLDER.rglob("*"):
+            if "__pycache__" not in path.parts and path.is_file():
+                self.assertRegex(path.name, r"^[a-z0-9_]+\.py$")
+
+    def test_characters_words_and_sizes(self):
+        for file, text in self.texts.items():
+            self.assertRegex(text, r"\A[\n -~]*\Z", file.name)
+            self.assertIsNone(BARRED_WORDS.search(text), file.name)
+            lines = text.splitlines()
+            self.assertLessEqual(len(lines), 400, file.name)
+            for line in lines:
+                self.assertLessEqual(len(line), 120, line)
+
+    def test_functions(self):
+        for where, node in self.walk():
+            if isinstance(node, (ast.FunctionDef, ast.ClassDef)):
+                self.assertEqual(node.decorator_list, [], where)
+            if isinstance(node, ast.FunctionDef):
+                self.assertLessEqual(node.end_lineno - node.lineno + 1, 40, where)
+                self.assertIsNone(node.args.vararg, where)
+                self.assertIsNone(node.args.kwarg, where)
+                self.assertEqual(node.args.posonlyargs, [], where)
+
+    def test_statements_and_values(self):
+        for where, node in self.walk():
+            self.assertNotIsInstance(node, BARRED_NODES, where)
+            if isinstance(node, (ast.For, ast.While)):
+                self.assertEqual(node.orelse, [], where)
+            if isinstance(node, ast.Starred):
+                self.assertIsInstance(node.ctx, ast.Store, where)
+            if isinstance(node, ast.Constant):
+                self.assertNotIsInstance(node.value, (float, complex), where)
+                self.assertNotIn("%", str(node.value), where)
+            if isinstance(node, ast.Compare):
+                for sign, right in zip(node.ops, node.comparators):
+                    if isinstance(sign, (ast.Is, ast.IsNot)):
+                        self.assertIsInstance(right, ast.Constant, where)
+                        self.assertIn(repr(right.value), ("None", "True", "False"), where)
+
+    def test_imports(self):
+        for where, node in self.walk():
+            if isinstance(node, ast.ImportFrom):
+                self.assertEqual(node.level, 0, where)
+                self.assertRegex(node.module, r"^(tiewebs\.[a-z0-9_]+|__future__)$", where)
+                for name in node.names:
+                    self.assertNotEqual(name.name, "*", where)
+
+    def test_names(self):
+        for file, tree in self.trees.items():
+            for name in names_in(tree):
+                if name != "__init__":
+                    self.assertRegex(name, r"^[A-Za-z][A-Za-z0-9_]*$", file.name)
+
+    def test_builtins(self):
+        for where, node in self.walk():
+            if isinstance(node, ast.Name) and hasattr(builtins, node.id):
+                self.assertIn(node.id, BUILTINS, where)
+                self.assertIsInstance(node.ctx, ast.Load, where)
+            if isinstance(node, ast.arg):
+                self.assertFalse(hasattr(builtins, node.arg), where)
+
+    def test_methods(self):
+        known = METHODS | own_methods(self.trees.values())
+        for where, node in self.walk():
+            if isinstance(node, ast.Call) and isinstance(node.func, ast.Attribute):
+                self.assertIn(node.func.attr, known, where)
+
+
+if __name__ == "__main__":
+    unittest.main()

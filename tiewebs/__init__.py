@@ -1,0 +1,1 @@
+"""Tiewebs: webs made of the ties of a web."""

@@ -1,0 +1,57 @@
+"""Maps of a web to another one."""
+
+from tiewebs.errors import TooGreat
+from tiewebs.webs import are_tied, degrees, is_place, need_web
+
+MOST_MAPPED = 7
+
+
+def need_mapped(one, other):
+    """Refuse two things of which no maps are told."""
+    # A second one that is no web is refused ahead of a first one that is too great.
+    need_web(one)
+    need_web(other)
+    for web in (one, other):
+        if web[0] > MOST_MAPPED:
+            raise TooGreat(web[0], MOST_MAPPED)
+
+
+def goes_on(one, other, start, place):
+    """Whether a place of the other web may stand next in a map with this start."""
+    at = len(start)
+    if place in start:
+        return False
+    return all([are_tied(one, ahead, at) == are_tied(other, start[ahead], place) for ahead in range(at)])
+
+
+def map_holds(one, other, thing):
+    """Whether thing, which may be anything, is a map of the one web to the other."""
+    need_mapped(one, other)
+    many = one[0]
+    if other[0] != many or not isinstance(thing, tuple) or len(thing) != many:
+        return False
+    if not all([is_place(many, place) for place in thing]):
+        return False
+    return all([goes_on(one, other, thing[:at], place) for at, place in enumerate(thing)])
+
+
+def first_map_from(one, other, start):
+    """The first map with this start, as tuples compare, or None."""
+    many = one[0]
+    if len(start) == many:
+        return start
+    for place in range(many):
+        if goes_on(one, other, start, place):
+            found = first_map_from(one, other, start + (place,))
+            if found is not None:
+                return found
+    return None
+
+
+def map_to(one, other):
+    """The first map of the one web to the other, as tuples compare, or None."""
+    need_mapped(one, other)
+    # A map keeps how many are tied to each place; most webs that are not alike differ in this.
+    if sorted(degrees(one)) != sorted(degrees(other)):
+        return None
+    return first_map_from(one, other, ())
