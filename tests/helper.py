@@ -1,6 +1,8 @@
-"""What several tests use: odd things to hand in, and webs to hand in."""
+"""What several tests use: odd things to hand in, webs to hand in, and what must be refused of each question."""
 
 from itertools import combinations
+
+from tiewebs.errors import NoWeb, TooGreat
 
 THIRTY = 10 ** 30 - 1
 
@@ -99,3 +101,68 @@ def star(many):
 def moved(web, places):
     """The web that has place places[k] where the one handed in has place k."""
     return (web[0], tuple(sorted([tuple(sorted((places[a], places[b]))) for a, b in web[1]])))
+
+
+def without(web, *ties):
+    """The web without some of its ties."""
+    return (web[0], tuple([tie for tie in web[1] if tie not in ties]))
+
+
+def beside(one, other):
+    """The two webs as one, the places of the other behind those of the one."""
+    return (one[0] + other[0], one[1] + tuple([(a + one[0], b + one[0]) for a, b in other[1]]))
+
+
+# Four places with all ties but one, and six with all but three that do not meet: of each two sharings.
+KITE = without(full(4), (0, 3))
+EIGHT_SIDED = without(full(6), (0, 5), (1, 4), (2, 3))
+# Two threes that meet at a place.
+BOW = (5, ((0, 1), (0, 2), (1, 2), (2, 3), (2, 4), (3, 4)))
+# A three with one more place at each of its places.
+NET = (6, ((0, 1), (0, 2), (0, 3), (1, 2), (1, 4), (2, 5)))
+# A ring of four or five places, and one place tied to them all.
+WHEEL_OF_FOUR = (5, ((0, 1), (0, 3), (0, 4), (1, 2), (1, 4), (2, 3), (2, 4), (3, 4)))
+WHEEL_OF_FIVE = (6, ((0, 1), (0, 4), (0, 5), (1, 2), (1, 5), (2, 3), (2, 5), (3, 4), (3, 5), (4, 5)))
+
+
+def names_of(many):
+    """Tuples of so many ties of a root, no two the same: all that there are, but for how the root is numbered.
+
+    The root's places are numbered as the names need them, one by one."""
+    if many == 0:
+        yield ()
+        return
+    for ahead in names_of(many - 1):
+        used = max([high + 1 for low, high in ahead], default=0)
+        for name in pairs_of(used) + [(low, used) for low in range(used)] + [(used, used + 1)]:
+            if name not in ahead:
+                yield ahead + (name,)
+
+
+def web_named(names):
+    """The web with a place for each name, tied where the names have a place in common."""
+    pairs = pairs_of(len(names))
+    return (len(names), tuple([(a, b) for a, b in pairs if set(names[a]) & set(names[b])]))
+
+
+def root_named(names, many=None):
+    """The root with these names for its ties, of as few places as they need or of so many."""
+    fewest = max([high + 1 for low, high in names], default=0)
+    return (fewest if many is None else many, tuple(sorted(names)))
+
+
+def check_no_web(case, ask):
+    """ask(web) refuses with NoWeb whatever is none."""
+    for thing in no_webs():
+        with case.subTest(thing=thing), case.assertRaises(NoWeb):
+            ask(thing)
+
+
+def check_too_many_places(case, ask, most):
+    """ask(web) refuses all webs of more places than most, with both numbers."""
+    for many in range(most + 1, 15):
+        for web in (bare(many), row(many), ring(many), full(many), star(many), (many, ((0, 1),))):
+            with case.subTest(web=web):
+                with case.assertRaises(TooGreat) as caught:
+                    ask(web)
+                case.assertEqual((caught.exception.many, caught.exception.most), (many, most))

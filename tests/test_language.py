@@ -35,6 +35,22 @@ def own_methods(trees):
             for part in node.body if isinstance(part, ast.FunctionDef)}
 
 
+def defined_in(tree):
+    """The names that a file gives at its top by itself."""
+    found = []
+    for node in tree.body:
+        if isinstance(node, (ast.FunctionDef, ast.ClassDef)):
+            found.append(node.name)
+        elif isinstance(node, ast.Assign):
+            found.extend([target.id for target in node.targets])
+    return found
+
+
+def imported_in(tree):
+    """The pairs of a module and a name that a file imports from it."""
+    return [(node.module, name.name) for node in tree.body if isinstance(node, ast.ImportFrom) for name in node.names]
+
+
 def names_in(tree):
     """Each name that a file gives or uses."""
     for node in ast.walk(tree):
@@ -106,6 +122,39 @@ class Language(unittest.TestCase):
                 self.assertRegex(node.module, r"^(tiewebs\.[a-z0-9_]+|__future__)$", where)
                 for name in node.names:
                     self.assertNotEqual(name.name, "*", where)
+
+    def test_each_import_is_from_the_file_that_defines_the_name_and_is_used(self):
+        for file, tree in self.trees.items():
+            used = {node.id for node in ast.walk(tree) if isinstance(node, ast.Name)}
+            for module, name in imported_in(tree):
+                home = FOLDER / (module.split(".")[1] + ".py")
+                self.assertIn(name, defined_in(self.trees[home]), file.name)
+                self.assertIn(name, used, file.name)
+
+    def test_no_two_files_import_from_each_other(self):
+        reached = {file.stem: {module.split(".")[1] for module, name in imported_in(tree)}
+                   for file, tree in self.trees.items()}
+        for turn in reached:
+            for one in reached:
+                for other in list(reached[one]):
+                    reached[one] |= reached[other]
+        for one in reached:
+            self.assertNotIn(one, reached[one])
+
+    def test_each_name_is_bound_once_at_the_top(self):
+        for file, tree in self.trees.items():
+            names = defined_in(tree) + [name for module, name in imported_in(tree)]
+            self.assertEqual(len(names), len(set(names)), file.name)
+
+    def test_no_local_name_is_that_of_an_import_a_class_or_a_function(self):
+        for file, tree in self.trees.items():
+            taken = set(defined_in(tree)) | {name for module, name in imported_in(tree)}
+            for part in [node for node in ast.walk(tree) if isinstance(node, ast.FunctionDef)]:
+                for node in ast.walk(part):
+                    if isinstance(node, ast.arg):
+                        self.assertNotIn(node.arg, taken, f"{file.name}:{node.lineno}")
+                    if isinstance(node, ast.Name) and isinstance(node.ctx, ast.Store):
+                        self.assertNotIn(node.id, taken, f"{file.name}:{node.lineno}")
 
     def test_names(self):
         for file, tree in self.trees.items():

@@ -1,7 +1,6 @@
 """Maps of a web to another one."""
 
-from tiewebs.errors import TooGreat
-from tiewebs.webs import are_tied, degrees, is_place, need_web
+from tiewebs.webs import are_tied, degrees, is_place, need_few_places, need_web
 
 MOST_MAPPED = 7
 
@@ -11,9 +10,8 @@ def need_mapped(one, other):
     # A second one that is no web is refused ahead of a first one that is too great.
     need_web(one)
     need_web(other)
-    for web in (one, other):
-        if web[0] > MOST_MAPPED:
-            raise TooGreat(web[0], MOST_MAPPED)
+    need_few_places(one, MOST_MAPPED)
+    need_few_places(other, MOST_MAPPED)
 
 
 def goes_on(one, other, start, place):

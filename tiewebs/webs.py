@@ -1,6 +1,6 @@
 """Webs: what one is, and what is told of its places."""
 
-from tiewebs.errors import NoPlace, NoPlaces, NoWeb
+from tiewebs.errors import NoPlace, NoPlaces, NoWeb, TooGreat
 
 MOST_PLACES = 14
 
@@ -29,7 +29,7 @@ def is_tie(many, thing):
 
 
 def is_rising(things):
-    """Whether each of a tuple, all of one kind, is greater than the one ahead."""
+    """Whether each of a tuple or list, all of one kind, is greater than the one ahead."""
     return all([ahead < behind for ahead, behind in zip(things, things[1:])])
 
 
@@ -55,6 +55,25 @@ def need_web(thing):
         raise NoWeb("this is no web")
 
 
+def need_place(web, place):
+    """Refuse what is no web, then what is no place of it."""
+    need_web(web)
+    if not is_place(web[0], place):
+        raise NoPlace("this is no place of the web")
+
+
+def need_few_places(web, most):
+    """Refuse what is no web, then a web of more places than so many."""
+    need_web(web)
+    if web[0] > most:
+        raise TooGreat(web[0], most)
+
+
+def pairs_of(many):
+    """The rising list of all that could be ties of a web of so many places."""
+    return [(low, high) for low in range(many) for high in range(low + 1, many)]
+
+
 def are_tied(web, one, other):
     """Whether two places of a web are tied, whichever is the lesser."""
     return (min(one, other), max(one, other)) in web[1]
@@ -62,11 +81,8 @@ def are_tied(web, one, other):
 
 def near(web, place):
     """The rising list of the places tied to a place."""
-    need_web(web)
-    many = web[0]
-    if not is_place(many, place):
-        raise NoPlace("this is no place of the web")
-    return [other for other in range(many) if are_tied(web, place, other)]
+    need_place(web, place)
+    return [other for other in range(web[0]) if are_tied(web, place, other)]
 
 
 def degrees(web):
