@@ -1,6 +1,6 @@
 """What several tests use: odd things to hand in, webs to hand in, and what must be refused of each question."""
 
-from itertools import combinations
+from itertools import combinations, permutations
 
 from tiewebs.errors import NoWeb, TooGreat
 
@@ -68,6 +68,20 @@ def no_webs():
     ]
 
 
+def no_maps_of(many):
+    """Things of which none is a tuple with each of so many places once, many from 2 on."""
+    plain = tuple(range(many))
+    return odd_things() + foreign_things() + [
+        0, 1, list(plain), dict(enumerate(plain)), "".join(map(str, plain)), plain[:-1], plain[1:], plain + (many,),
+        plain[:-1] + (many,), plain + (0,), plain + plain, (0,) * many, (many - 1,) * many, plain[:-1] + (0,),
+        (1,) + plain[1:], (-1,) + plain[1:], tuple(range(-many, 0)), tuple(range(1, many + 1)),
+        plain[:-1] + (-1,), plain[:-1] + (None,), plain[:-1] + (str(many - 1),), plain[:-1] + ([many - 1],),
+        plain[:-1] + ({},), plain[:-1] + ((many - 1,),), plain[:-1] + (float(many - 1),), (False,) + plain[1:],
+        (0, True) + plain[2:], plain[:-1] + (THIRTY,), (-THIRTY,) + plain[1:], (plain,), tuple(map(str, plain)),
+        (nested(0, 11),) + plain[1:],
+    ]
+
+
 def pairs_of(many):
     return list(combinations(range(many), 2))
 
@@ -125,6 +139,49 @@ WHEEL_OF_FOUR = (5, ((0, 1), (0, 3), (0, 4), (1, 2), (1, 4), (2, 3), (2, 4), (3,
 WHEEL_OF_FIVE = (6, ((0, 1), (0, 4), (0, 5), (1, 2), (1, 5), (2, 3), (2, 5), (3, 4), (3, 5), (4, 5)))
 
 
+# Of each kind of webs that are no tie webs, but are where any one place is left out, one: these are all.
+BARRED = (
+    (4, ((0, 1), (0, 2), (0, 3))),
+    (5, ((0, 1), (0, 2), (0, 3), (1, 2), (1, 3), (2, 4), (3, 4))),
+    (5, ((0, 1), (0, 2), (0, 3), (0, 4), (1, 2), (1, 3), (1, 4), (2, 3), (2, 4))),
+    (6, ((0, 1), (0, 2), (0, 3), (1, 2), (1, 3), (2, 4), (3, 5))),
+    (6, ((0, 1), (0, 2), (0, 3), (1, 2), (1, 3), (2, 4), (3, 5), (4, 5))),
+    (6, ((0, 1), (0, 2), (0, 3), (0, 4), (1, 2), (1, 3), (1, 4), (2, 3), (4, 5))),
+    (6, ((0, 1), (0, 2), (0, 3), (0, 4), (1, 2), (1, 3), (1, 5), (2, 4), (3, 5))),
+    (6, ((0, 1), (0, 2), (0, 3), (0, 4), (0, 5), (1, 2), (1, 3), (2, 4), (3, 5), (4, 5))),
+    (6, ((0, 1), (0, 2), (0, 3), (0, 4), (0, 5), (1, 2), (1, 3), (1, 4), (1, 5), (2, 3), (4, 5))),
+)
+
+
+def part_of(web, some):
+    """The web within some places, in the order in which they stand."""
+    at = {place: number for number, place in enumerate(some)}
+    return moved((len(some), tuple([tie for tie in web[1] if tie[0] in at and tie[1] in at])), at)
+
+
+def one_of_each_kind(many):
+    """All webs of so many places, but one alone of those that are the same under other numbers."""
+    seen, found = set(), []
+    for web in webs_of(many):
+        if web not in seen:
+            found.append(web)
+            seen.update([moved(web, places) for places in permutations(range(many))])
+    return found
+
+
+def scattered(many, how_many, eighths):
+    """Webs of so many places, the same at each call, that have about so many eighths of all ties, here and there."""
+    found, state = [], 7 * many + eighths
+    for turn in range(how_many):
+        ties = []
+        for pair in pairs_of(many):
+            state = (state * 1103515245 + 12345) % 2 ** 31
+            if (state >> 16) % 8 < eighths:
+                ties.append(pair)
+        found.append((many, tuple(ties)))
+    return found
+
+
 def names_of(many):
     """Tuples of so many ties of a root, no two the same: all that there are, but for how the root is numbered.
 
@@ -143,6 +200,11 @@ def web_named(names):
     """The web with a place for each name, tied where the names have a place in common."""
     pairs = pairs_of(len(names))
     return (len(names), tuple([(a, b) for a, b in pairs if set(names[a]) & set(names[b])]))
+
+
+def named_webs(many):
+    """All tie webs of so many places, by going through the names of all roots."""
+    return {web_named(names) for names in names_of(many)}
 
 
 def root_named(names, many=None):

@@ -2,7 +2,7 @@ import unittest
 from copy import deepcopy
 from itertools import permutations
 
-from helper import THIRTY, bare, foreign_things, full, moved, nested, no_webs, odd_things, ring, row, star, webs_of
+from helper import bare, full, moved, no_maps_of, no_webs, odd_things, ring, row, star, webs_of
 from tiewebs.errors import NoWeb, TooGreat
 from tiewebs.maps import map_holds, map_to
 
@@ -22,20 +22,6 @@ def first_map(one, other):
         if is_map(one, other, places):
             return places
     return None
-
-
-def no_maps_of(many):
-    """Things of which none is a tuple with each of so many places once, many from 2 on."""
-    plain = tuple(range(many))
-    return odd_things() + foreign_things() + [
-        0, 1, list(plain), dict(enumerate(plain)), "".join(map(str, plain)), plain[:-1], plain[1:], plain + (many,),
-        plain[:-1] + (many,), plain + (0,), plain + plain, (0,) * many, (many - 1,) * many, plain[:-1] + (0,),
-        (1,) + plain[1:], (-1,) + plain[1:], tuple(range(-many, 0)), tuple(range(1, many + 1)),
-        plain[:-1] + (-1,), plain[:-1] + (None,), plain[:-1] + (str(many - 1),), plain[:-1] + ([many - 1],),
-        plain[:-1] + ({},), plain[:-1] + ((many - 1,),), plain[:-1] + (float(many - 1),), (False,) + plain[1:],
-        (0, True) + plain[2:], plain[:-1] + (THIRTY,), (-THIRTY,) + plain[1:], (plain,), tuple(map(str, plain)),
-        (nested(0, 11),) + plain[1:],
-    ]
 
 
 class MapHolds(unittest.TestCase):

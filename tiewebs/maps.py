@@ -53,3 +53,8 @@ def map_to(one, other):
     if sorted(degrees(one)) != sorted(degrees(other)):
         return None
     return first_map_from(one, other, ())
+
+
+def are_alike(one, other):
+    """Whether there is a map of the one web to the other."""
+    return map_to(one, other) is not None

@@ -56,6 +56,11 @@ def all_sharings(web):
     return sharings_from(web, [])
 
 
+def is_tie_web(web):
+    """Whether a web is a tie web: whether it has a sharing."""
+    return len(all_sharings(web)) > 0
+
+
 def holders_of(many, sharing):
     """For each place of the root, in order, the tuple of those of so many places whose names have it."""
     alone = [place for place in range(many) if how_many_have(sharing, (place,)) == 1]

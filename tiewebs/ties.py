@@ -11,13 +11,18 @@ def ties_meet(one, other):
     return any([place in other for place in one])
 
 
+def need_few_ties(web):
+    """Refuse what is no web, then a web of too many ties."""
+    need_web(web)
+    if len(web[1]) > MOST_TIES:
+        raise TooGreat(len(web[1]), MOST_TIES)
+
+
 def tie_web(web):
     """The web with a place for each tie, two of them tied where the ties meet."""
-    need_web(web)
+    need_few_ties(web)
     ties = web[1]
     many = len(ties)
-    if many > MOST_TIES:
-        raise TooGreat(many, MOST_TIES)
     return (many, tuple([(low, high) for low, high in pairs_of(many) if ties_meet(ties[low], ties[high])]))
 
 

@@ -1,6 +1,6 @@
 """Webs: what one is, and what is told of its places."""
 
-from tiewebs.errors import NoPlace, NoPlaces, NoWeb, TooGreat
+from tiewebs.errors import NoPlace, NoPlaces, NotJoined, NoWeb, TooGreat
 
 MOST_PLACES = 14
 
@@ -74,6 +74,13 @@ def pairs_of(many):
     return [(low, high) for low in range(many) for high in range(low + 1, many)]
 
 
+def choices(things, size):
+    """The rising list of the rising tuples of so many of a rising list of things."""
+    if size == 0:
+        return [()]
+    return [(thing,) + rest for at, thing in enumerate(things) for rest in choices(things[at + 1:], size - 1)]
+
+
 def are_tied(web, one, other):
     """Whether two places of a web are tied, whichever is the lesser."""
     return (min(one, other), max(one, other)) in web[1]
@@ -104,6 +111,12 @@ def pieces(web):
         leasts = [kept if least == gone else least for least in leasts]
     heads = [place for place in range(many) if leasts[place] == place]
     return [tuple([place for place in range(many) if leasts[place] == head]) for head in heads]
+
+
+def need_joined(web):
+    """Refuse what is no web, then a web of more than one piece."""
+    if len(pieces(web)) > 1:
+        raise NotJoined("the web has more than one piece")
 
 
 def within(web, some):
