@@ -2,7 +2,7 @@
 
 from itertools import combinations, permutations
 
-from tiewebs.errors import NoWeb, TooGreat
+from tiewebs.errors import NoNumber, NoWeb, TooGreat
 
 THIRTY = 10 ** 30 - 1
 
@@ -65,6 +65,14 @@ def no_webs():
         (2, ((0, None),)), (2, ((None, 1),)), (2, (("0", "1"),)), (2, ((0, "1"),)), (2, (([0], 1),)), (2, (({}, 1),)),
         (2, ((0, (1,)),)), (2, ((0, 1.0),)), (2, ((0.0, 1),)),
         (2, nested((0, 1), 11)), (2, (nested(0, 10),)), (2, ((0, nested(1, 9)),)), (nested(2, 11), ((0, 1),)),
+    ]
+
+
+def no_numbers(most):
+    """Things of which none is a whole number from 0 to most."""
+    return odd_things() + foreign_things() + [
+        -3, -most, most + 1, most + 2, most + 10, 2 ** 64, -2 ** 64, THIRTY - 1, str(most), f"{most} ", (most,), [most],
+        {most: most}, {most}, float(most), complex(most), bytes([most]), (), ((most,),), nested(most, 12), range(most),
     ]
 
 
@@ -217,6 +225,13 @@ def check_no_web(case, ask):
     """ask(web) refuses with NoWeb whatever is none."""
     for thing in no_webs():
         with case.subTest(thing=thing), case.assertRaises(NoWeb):
+            ask(thing)
+
+
+def check_no_number(case, ask, most):
+    """ask(number) refuses with NoNumber whatever is no whole number from 0 to most."""
+    for thing in no_numbers(most):
+        with case.subTest(thing=thing), case.assertRaises(NoNumber):
             ask(thing)
 
 

@@ -162,6 +162,44 @@ class Language(unittest.TestCase):
                 if name != "__init__":
                     self.assertRegex(name, r"^[A-Za-z][A-Za-z0-9_]*$", file.name)
 
+    def test_the_top_of_a_file_has_plain_values_functions_and_classes_alone(self):
+        allowed = (ast.ImportFrom, ast.FunctionDef, ast.ClassDef, ast.Assign, ast.Expr)
+        made = (ast.Call, ast.ListComp, ast.SetComp, ast.DictComp, ast.Set)
+        for file, tree in self.trees.items():
+            for at, node in enumerate(tree.body):
+                where = f"{file.name}:{node.lineno}"
+                self.assertIsInstance(node, allowed, where)
+                if isinstance(node, ast.Expr):
+                    self.assertEqual((at, type(node.value)), (0, ast.Constant), where)
+                if isinstance(node, ast.Assign):
+                    for part in ast.walk(node.value):
+                        self.assertNotIsInstance(part, made, where)
+                        if isinstance(part, (ast.List, ast.Dict)):
+                            self.assertIs(part, node.value, where)
+
+    def test_classes(self):
+        methods, attributes = own_methods(self.trees.values()), set()
+        for where, node in self.walk():
+            if isinstance(node, ast.ClassDef):
+                self.assertLessEqual(len(node.bases), 1, where)
+                for part in node.body:
+                    plain = isinstance(part, ast.Expr) and isinstance(part.value, ast.Constant)
+                    self.assertTrue(plain or isinstance(part, ast.FunctionDef), where)
+            if isinstance(node, ast.Attribute) and isinstance(node.ctx, ast.Store):
+                attributes.add(node.attr)
+        self.assertEqual(methods & attributes, set())
+        self.assertEqual((methods | attributes) & (METHODS - {"__init__"}), set())
+
+    def test_lists_and_dicts_at_the_top_of_a_file_are_not_changed(self):
+        for file, tree in self.trees.items():
+            tables = {node.targets[0].id for node in tree.body
+                      if isinstance(node, ast.Assign) and isinstance(node.value, (ast.List, ast.Dict))}
+            for node in ast.walk(tree):
+                if isinstance(node, ast.Subscript) and isinstance(node.value, ast.Name) and node.value.id in tables:
+                    self.assertIsInstance(node.ctx, ast.Load, file.name)
+                if isinstance(node, ast.Attribute) and isinstance(node.value, ast.Name) and node.value.id in tables:
+                    self.assertIn(node.attr, ("get", "items", "keys", "values", "index", "count"), file.name)
+
     def test_builtins(self):
         for where, node in self.walk():
             if isinstance(node, ast.Name) and hasattr(builtins, node.id):

@@ -22,6 +22,11 @@ def goes_on(one, other, start, place):
     return all([are_tied(one, ahead, at) == are_tied(other, start[ahead], place) for ahead in range(at)])
 
 
+def ties_reached(web, places):
+    """For each tie of a web, in order, the tie that it becomes where places stand in the stead of the web's own."""
+    return [tuple(sorted([places[low], places[high]])) for low, high in web[1]]
+
+
 def map_holds(one, other, thing):
     """Whether thing, which may be anything, is a map of the one web to the other."""
     need_mapped(one, other)

@@ -1,7 +1,7 @@
 """The only root: maps of tie webs, the maps of webs that are behind them, and the kinds of roots."""
 
 from tiewebs.errors import NoMap
-from tiewebs.maps import are_alike, goes_on, map_holds, need_mapped
+from tiewebs.maps import are_alike, goes_on, map_holds, need_mapped, ties_reached
 from tiewebs.sharings import all_sharings, root_by
 from tiewebs.ties import star_of, tie_web
 from tiewebs.webs import need_few_places, need_joined
@@ -18,8 +18,7 @@ def need_map(one, other, thing):
 def tie_map(one, other, places):
     """For each tie of the one web, in order, the number of the tie of the other that a map makes of it."""
     need_map(one, other, places)
-    reached = [tuple(sorted([places[low], places[high]])) for low, high in one[1]]
-    return tuple([other[1].index(tie) for tie in reached])
+    return tuple([other[1].index(tie) for tie in ties_reached(one, places)])
 
 
 def keeps_ties(one, other, ties, at, place):

@@ -1,6 +1,6 @@
 """Webs: what one is, and what is told of its places."""
 
-from tiewebs.errors import NoPlace, NoPlaces, NotJoined, NoWeb, TooGreat
+from tiewebs.errors import NoNumber, NoPlace, NoPlaces, NotJoined, NoWeb, TooGreat
 
 MOST_PLACES = 14
 
@@ -60,6 +60,12 @@ def need_place(web, place):
     need_web(web)
     if not is_place(web[0], place):
         raise NoPlace("this is no place of the web")
+
+
+def need_number(thing, most):
+    """Refuse what is no whole number from 0 to so many."""
+    if not is_whole(thing) or not 0 <= thing <= most:
+        raise NoNumber("this is no whole number that is taken here")
 
 
 def need_few_places(web, most):
